@@ -1,0 +1,1 @@
+"""Crosshall: great lists laid into cross tables."""
