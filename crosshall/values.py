@@ -60,7 +60,10 @@ def read_value(kind, text):
     return text if is_word(text) else None
 
 
+def order_key(value):
+    # None can't be compared with others, so whether a value lacks goes first; this sets None behind all, too.
+    return (1, 0) if value is None else (0, value)
+
+
 def ahead(one, other):
-    if one is None:
-        return False
-    return other is None or one < other
+    return order_key(one) < order_key(other)

@@ -18,3 +18,56 @@ def refused(test, error, deed, *things):
         deed(*things)
     test.assertIs(type(caught.exception), error)
     return caught.exception
+
+
+TREES = [("town", "word"), ("age", "number"), ("kind", "word"), ("high", "number")]
+GROVE = [
+    ("oak", 7, "a", 30), ("ash", 3, "b", None), ("oak", None, "b", -5), (None, 7, "a", 0), ("elm", -2, None, 30),
+    ("ash", 3, "a", 10 ** 40), (None, None, None, None), ("oak", 7, "b", 30), ("0", 0, "a", -(10 ** 59)),
+]
+
+
+def random_leaf(chance, fields):
+    """One of the four forms without sieves within, right for the fields."""
+    name, kind = chance.choice(fields)
+    if chance.randrange(5) == 0:
+        return ("lacks", name)
+    if kind == "word":
+        return ("is", name, chance.choice(["oak", "ash", "a", "b", "0", "007", "z" * 12]))
+    return (chance.choice(["is", "under", "over"]), name, chance.choice([0, 7, 3, -2, 30, 10 ** 60 - 1, -(10 ** 59)]))
+
+
+def random_sieve(chance, fields, levels):
+    """A sieve of at most so many levels, and of few sieves within each."""
+    form = chance.choice(["not", "all", "some", "leaf"])
+    if levels == 1 or form == "leaf":
+        return random_leaf(chance, fields)
+    if form == "not":
+        return ("not", random_sieve(chance, fields, levels - 1))
+    return (form, tuple(random_sieve(chance, fields, levels - 1) for at in range(chance.randrange(4))))
+
+
+def leaves(sieve):
+    """The sieves without sieves within, from left to right."""
+    if sieve[0] == "not":
+        return leaves(sieve[1])
+    if sieve[0] in ("all", "some"):
+        return [leaf for inner in sieve[1] for leaf in leaves(inner)]
+    return [sieve]
+
+
+def levels_of(sieve):
+    if sieve[0] == "not":
+        return 1 + levels_of(sieve[1])
+    if sieve[0] in ("all", "some"):
+        return 1 + max([levels_of(inner) for inner in sieve[1]], default=0)
+    return 1
+
+
+def sieves_in(sieve):
+    """How many sieves it has in all, itself too."""
+    if sieve[0] == "not":
+        return 1 + sieves_in(sieve[1])
+    if sieve[0] in ("all", "some"):
+        return 1 + sum(sieves_in(inner) for inner in sieve[1])
+    return 1
