@@ -61,11 +61,18 @@ def path_key(path):
     return [order_key(value) for value in path]
 
 
+def names_of(view, side):
+    return view[0] if side == "rows" else view[1]
+
+
+def paths_over(fields, names, row):
+    values = [row[field_at(fields, name)] for name in names]
+    return [tuple(values[:many]) for many in range(len(values) + 1)]
+
+
 def heads_of(fields, names, rows):
-    places = [field_at(fields, name) for name in names]
     heads = {(): True}
     for row in rows:
-        path = tuple([row[place] for place in places])
-        for many in range(1, len(path) + 1):
-            heads[path[:many]] = True
+        for path in paths_over(fields, names, row):
+            heads[path] = True
     return sorted(heads, key=path_key)

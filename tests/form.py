@@ -38,7 +38,15 @@ WORDS = set(
     "type typing typing_extensions enum Enum IntEnum StrEnum Flag IntFlag Generic Protocol ABC ABCMeta namedtuple "
     "NamedTuple TypedDict TYPE_CHECKING abstractmethod".split()
 )
-NO_FILES = WORDS | {"test", "tests", "testing", "site", "conftest", "sitecustomize", "usercustomize"} | set(dir(builtins))
+NO_FILES = {"test", "tests", "testing", "site", "conftest", "sitecustomize", "usercustomize"}
+NO_FILES = NO_FILES | WORDS | set(dir(builtins))
+WALKED = {"zip", "enumerate", "reversed", "range", "items", "keys", "values"}
+WALKERS = {"list", "tuple", "dict", "sorted", "sum", "any", "all", "enumerate", "zip"}
+CHANGES = {"append", "clear", "extend", "insert", "pop", "remove", "reverse", "setdefault", "update"}
+KEYWORDS = {
+    "sorted": {"key", "reverse"}, "min": {"key", "default"}, "max": {"key", "default"}, "sum": {"start"},
+    "enumerate": {"start"}, "zip": {"strict"},
+}
 
 
 def sign_faults(source):
@@ -200,17 +208,91 @@ def name_faults(node, names):
     return told
 
 
+def called(node):
+    """The name of what a call calls, or None."""
+    if isinstance(node, ast.Call):
+        return getattr(node.func, "id", None) or getattr(node.func, "attr", None)
+    return None
+
+
+def is_walked(node, outer):
+    if isinstance(outer, (ast.For, ast.comprehension)):
+        return outer.iter is node
+    if called(outer) in WALKERS:
+        return outer.args[0] is node
+    if called(outer) == "join":
+        return isinstance(outer.func.value, ast.Constant)
+    return called(outer) in ("min", "max") and len(outer.args) == 1
+
+
+def is_set(node):
+    if isinstance(node, ast.BinOp) and isinstance(node.op, (ast.Sub, ast.BitAnd, ast.BitOr, ast.BitXor)):
+        return is_set(node.left) or is_set(node.right)
+    return isinstance(node, ast.Set) or called(node) in ("set", "frozenset")
+
+
+def set_is_asked(outer):
+    if isinstance(outer, ast.Compare):
+        return all(isinstance(op, (ast.In, ast.NotIn, ast.Eq, ast.NotEq)) for op in outer.ops)
+    return is_set(outer) or called(outer) in ("sorted", "len") and not outer.keywords
+
+
+def changed_in(loop):
+    """What stands in the loop's body as changed, written out."""
+    for node in ast.walk(ast.Module(body=loop.body, type_ignores=[])):
+        if called(node) in CHANGES and isinstance(node.func, ast.Attribute):
+            yield ast.unparse(node.func.value)
+        if isinstance(node, ast.Subscript) and isinstance(node.ctx, ast.Store):
+            yield ast.unparse(node.value)
+        if isinstance(node, ast.AugAssign):
+            yield ast.unparse(node.target)
+
+
+def loop_walks(node):
+    if called(node) in ("enumerate", "zip", "reversed"):
+        return [thing for inner in node.args for thing in loop_walks(inner)]
+    if called(node) in ("items", "keys", "values"):
+        return [ast.unparse(node.func.value)]
+    return [ast.unparse(node)]
+
+
+def use_faults(node, outer):
+    told = []
+    if called(node) in WALKED and not is_walked(node, outer):
+        told.append(f"L23 {called(node)} is not walked on the spot")
+    if is_set(node) and not set_is_asked(outer):
+        told.append("L24 a set that is kept or walked")
+    if isinstance(node, ast.For) and set(loop_walks(node.iter)) & set(changed_in(node)):
+        told.append("L23 what a loop walks is changed in it")
+    if isinstance(node, ast.Call) and isinstance(node.func, ast.Name) and node.func.id in OWN_NAMES:
+        if not {keyword.arg for keyword in node.keywords} <= KEYWORDS.get(node.func.id, set()):
+            told.append("L22 a keyword that is out")
+    return told
+
+
+def local_faults(tree):
+    """L15: parameters and locals that are called like a class or an import of the file."""
+    taken = {node.name for node in tree.body if isinstance(node, ast.ClassDef)}
+    taken |= {alias.name for node in tree.body if isinstance(node, ast.ImportFrom) for alias in node.names}
+    told = []
+    for node in ast.walk(tree):
+        stored = isinstance(node, ast.Name) and isinstance(node.ctx, ast.Store) and node.id in taken
+        if stored or isinstance(node, ast.arg) and node.arg in taken:
+            told.append((node.lineno, "L15 a local that is called like a class or an import"))
+    return told
+
+
 def faults(name, source):
     told = sign_faults(source)
     stem = name[:-3]
     if not re.fullmatch(r"[a-z][a-z0-9_]*\.py|__init__\.py", name) or stem in NO_FILES or stem.startswith("test_"):
         told.append((1, "L14 a file that is called so"))
     tree = ast.parse(source)
-    told += text_faults(source) + top_faults(tree)
+    told += text_faults(source) + top_faults(tree) + local_faults(tree)
     names = top_names(tree)
     for outer in ast.walk(tree):
         for node in ast.iter_child_nodes(outer):
-            seen = def_faults(node, outer) + name_faults(node, names)
+            seen = def_faults(node, outer) + name_faults(node, names) + use_faults(node, outer)
             if isinstance(node, ast.stmt):
                 seen += statement_faults(node, outer)
             if isinstance(node, ast.expr):
@@ -247,7 +329,7 @@ def import_faults(sources):
 def package_faults(sources):
     methods = set()
     stored = set()
-    called = []
+    calls = []
     for name, source in sources.items():
         for node in ast.walk(ast.parse(source)):
             if isinstance(node, ast.ClassDef):
@@ -255,7 +337,7 @@ def package_faults(sources):
             if isinstance(node, ast.Attribute) and isinstance(node.ctx, ast.Store):
                 stored.add(node.attr)
             if isinstance(node, ast.Call) and isinstance(node.func, ast.Attribute):
-                called.append((name, node.func.attr))
+                calls.append((name, node.func.attr))
     told = [f"L18 {name} is a method and a value" for name in sorted(methods & stored)]
-    told += [f"{name}: L25 {method}" for name, method in called if method not in METHODS | methods | UNDERSCORED]
+    told += [f"{name}: L25 {method}" for name, method in calls if method not in METHODS | methods | UNDERSCORED]
     return told + import_faults(sources)

@@ -1,5 +1,7 @@
 """What several test files share."""
 
+from crosshall.sheets import Sheet
+
 
 def not_texts():
     return [
@@ -71,3 +73,20 @@ def sieves_in(sieve):
     if sieve[0] in ("all", "some"):
         return 1 + sum(sieves_in(inner) for inner in sieve[1])
     return 1
+
+
+def sheet_of(fields, rows):
+    sheet = Sheet(fields)
+    for row in rows:
+        sheet.put(row)
+    return sheet
+
+
+def random_net(chance, nodes, arcs, most):
+    """A net of at most so many nodes (two at least) and arcs, with no number above the most."""
+    many = chance.randrange(2, nodes + 1)
+    told = []
+    for at in range(chance.randrange(arcs + 1)):
+        bounds = sorted([chance.choice([0, chance.randrange(most + 1)]), chance.randrange(most + 1)])
+        told.append((*chance.sample(range(many), 2), *bounds))
+    return many, told

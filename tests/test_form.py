@@ -27,6 +27,26 @@ OUT = [
     ("def f(a):\n    for b in a:\n        pass\n    else:\n        pass\n", "L6"),
     ("def f(a):\n    try:\n        pass\n    except:\n        pass\n", "L6"),
     ("class A:\n    def f(self):\n        pass\n\n    def f(self):\n        pass\n", "L18"),
+    ("def f(a):\n    b = zip(a, a)\n", "L23"), ("def f(a):\n    return a.items()\n", "L23"),
+    ("def f(a):\n    return max(1, range(a))\n", "L23"), ("def f(a):\n    return g(enumerate(a))\n", "L23"),
+    ("def f(a):\n    for b in a:\n        a.append(b)\n", "L23"),
+    ("def f(a):\n    for b in a:\n        a[b] = 1\n", "L23"),
+    ("def f(a):\n    for b, c in enumerate(a.b):\n        a.b.pop(c)\n", "L23"),
+    ("def f(a):\n    b = set(a)\n", "L24"), ("def f(a):\n    for b in set(a):\n        pass\n", "L24"),
+    ("def f(a):\n    return sorted(set(a), key=len)\n", "L24"), ("def f(a, b):\n    return set(a) - set(b)\n", "L24"),
+    ("def f(a):\n    return sum(a, key=1)\n", "L22"), ("def f(a):\n    return int('7', base=8)\n", "L22"),
+    ("from crosshall.b import c\n\n\ndef f(c):\n    pass\n", "L15"),
+    ("class A:\n    pass\n\n\ndef f(b):\n    A = b\n", "L15"),
+]
+# Code that keeps to the rules.
+IN = [
+    "def f(a):\n    return [b for b in reversed(a)]\n",
+    "def f(a):\n    return sorted(a.items(), key=len, reverse=True)\n",
+    "def f(a):\n    return len(set(a)) < 3 or set(a) == set([1])\n",
+    "def f(a, b):\n    return b in set(a) - set([1])\n",
+    "def f(a):\n    b = []\n    for c in a:\n        b.append(c)\n    return b\n",
+    "def f(a):\n    return ', '.join(a.keys())\n", "def f(a):\n    return max(a.values()) + max(a, default=0)\n",
+    "def f(a):\n    for b in list(a):\n        a[b] = 1\n",
 ]
 TOGETHER = [
     ({"a.py": "class A:\n    def f(self):\n        self.f = 1\n"}, "L18"),
@@ -58,6 +78,10 @@ class Look(unittest.TestCase):
         for source, rule in OUT:
             told = form.faults("a.py", source)
             self.assertTrue(any(f" {rule} " in line for line in told), (source[:60], rule, told))
+
+    def test_what_is_in_is_let_by(self):
+        for source in IN:
+            self.assertEqual(form.faults("a.py", source), [])
 
     def test_what_is_out_in_files_together_is_seen(self):
         for sources, rule in TOGETHER:
