@@ -54,8 +54,7 @@ class Stream:
         return pushed
 
 
-def flow_of(many, arcs):
-    asked_net(many, arcs)
+def flow_or_cut(many, arcs):
     leasts = [arc[2] for arc in arcs]
     # With each arc at its least a node has too much or too little: the one is drawn from a node more, the other goes
     # to another one, and a flow is there where all of it can go through.
@@ -67,6 +66,11 @@ def flow_of(many, arcs):
     if stream.push(many, many + 1, due) == due:
         return ("flow", stream.borne[:len(arcs)])
     return ("cut", [node for node in sorted(stream.reach(many)) if node < many])
+
+
+def flow_of(many, arcs):
+    asked_net(many, arcs)
+    return flow_or_cut(many, arcs)
 
 
 def asked_flow(many, arcs, flow):

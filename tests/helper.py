@@ -90,3 +90,13 @@ def random_net(chance, nodes, arcs, most):
         bounds = sorted([chance.choice([0, chance.randrange(most + 1)]), chance.randrange(most + 1)])
         told.append((*chance.sample(range(many), 2), *bounds))
     return many, told
+
+
+def random_grid(chance, rows, columns, most):
+    """A grid of that size, with no number above the most, and noughts among them."""
+    return [[chance.choice([0, chance.randrange(most + 1)]) for column in range(columns)] for row in range(rows)]
+
+
+def every_box(grid):
+    """The places of all boxes, by rows, then columns."""
+    return [(row, column) for row in range(len(grid)) for column in range(len(grid[0]))]
