@@ -1,6 +1,9 @@
 """What several test files share."""
 
+from crosshall.kept import Kept
 from crosshall.sheets import Sheet
+from crosshall.tables import lay
+from crosshall.values import ahead
 
 
 def not_texts():
@@ -26,6 +29,17 @@ TREES = [("town", "word"), ("age", "number"), ("kind", "word"), ("high", "number
 GROVE = [
     ("oak", 7, "a", 30), ("ash", 3, "b", None), ("oak", None, "b", -5), (None, 7, "a", 0), ("elm", -2, None, 30),
     ("ash", 3, "a", 10 ** 40), (None, None, None, None), ("oak", 7, "b", 30), ("0", 0, "a", -(10 ** 59)),
+]
+COUNT = ("count",)
+ALL = ("all", ())
+NEVER = ("some", ())
+VIEWS = [
+    ((), (), (COUNT,)), (("town",), (), (COUNT, ("sum", "age"))), ((), ("age",), (("unlike", "town"), COUNT)),
+    (("town",), ("kind",), (("least", "high"), ("greatest", "high"), COUNT, COUNT)),
+    (("kind", "town"), ("age",), (COUNT, ("sum", "age"), ("least", "town"), ("unlike", "high"))),
+    (("town", "kind", "age"), ("high",), (COUNT, ("sum", "high"))), (("age",), ("high", "kind", "town"), (COUNT,)),
+    ((), ("town", "age", "high"), (("sum", "high"), ("greatest", "kind"))),
+    (("age", "high"), ("kind", "town"), (COUNT, ("unlike", "age"))),
 ]
 
 
@@ -80,6 +94,52 @@ def sheet_of(fields, rows):
     for row in rows:
         sheet.put(row)
     return sheet
+
+
+def table_of(view, rows=GROVE, sieve=ALL):
+    """A table laid of rows of TREES."""
+    return lay(sheet_of(TREES, rows), view, sieve)
+
+
+def kept_of(view, rows=GROVE, sieve=ALL):
+    """A kept table with rows of TREES put in."""
+    kept = Kept(TREES, view, sieve)
+    for row in rows:
+        kept.put(row)
+    return kept
+
+
+def open_all(look, table):
+    for side in ("rows", "columns"):
+        for path in table.heads(side):
+            if table.kids(side, path):
+                look.open_up(side, path)
+
+
+def one_ahead(one, other):
+    """The order of [13] as its words say, for sorting."""
+    if one == other:
+        return 0
+    for left, right in zip(one, other):
+        if left != right:
+            return -1 if ahead(left, right) else 1
+    return -1 if len(one) < len(other) else 1
+
+
+def boxes_told(table):
+    """The numbers and figures of each box of a head of rows and a head of columns."""
+    pairs = [(one, other) for one in table.heads("rows") for other in table.heads("columns")]
+    return {pair: (table.opened(*pair), table.box(*pair)) for pair in pairs}
+
+
+def all_told(table):
+    """All that a table, or a kept one, tells of itself."""
+    sides = []
+    for side in ("rows", "columns"):
+        heads = table.heads(side)
+        sides.append((heads, [table.kids(side, path) for path in heads], table.bottom(side)))
+    grids = [table.grid(place) for place in range(len(table.view()[2]))]
+    return table.fields(), table.view(), sides, boxes_told(table), grids
 
 
 def random_net(chance, nodes, arcs, most):

@@ -9,10 +9,8 @@ from crosshall import heads
 from crosshall.errors import NoField, NoHead, NoKind, NoView
 from crosshall.figures import figure_of
 from crosshall.heads import asked_path, asked_view, heads_of, lies_under
-from crosshall.values import ahead
-from helper import GROVE, TREES, not_texts, refused
+from helper import COUNT, GROVE, TREES, not_texts, one_ahead, refused
 
-COUNT = ("count",)
 EIGHT = [(name, "number" if name in "bdfh" else "word") for name in "abcdefgh"]
 SIDES = [(), ("town",), ("age",), ("town", "age"), ("age", "town"), ("town", "kind", "age"), ("high", "age", "kind")]
 
@@ -195,16 +193,6 @@ class LiesUnder(unittest.TestCase):
         self.assertIs(lies_under(TREES, ("age",), ("7",), row), False)
         self.assertIs(lies_under(TREES, ("town",), ("7", 7), row), False)
         self.assertIs(lies_under(TREES, ("age",), (10 ** 5000,), row), False)
-
-
-def one_ahead(one, other):
-    """The order of [13] as its words say, for sorting."""
-    if one == other:
-        return 0
-    for left, right in zip(one, other):
-        if left != right:
-            return -1 if ahead(left, right) else 1
-    return -1 if len(one) < len(other) else 1
 
 
 class Heads(unittest.TestCase):

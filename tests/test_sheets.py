@@ -159,7 +159,8 @@ class Numbers(unittest.TestCase):
             sheet.put(("oak", age, None))
         self.assertEqual(sheet.out(2), ("oak", 2, None))
         self.assertEqual(sheet.put(("ash", 9, None)), 3)
-        self.assertEqual([sheet.out(number) for number in (0, 1, 3)], [("oak", 0, None), ("oak", 1, None), ("ash", 9, None)])
+        told = [sheet.out(number) for number in (0, 1, 3)]
+        self.assertEqual(told, [("oak", 0, None), ("oak", 1, None), ("ash", 9, None)])
         self.assertEqual(sheet.numbers(), [])
         self.assertEqual(sheet.put(("elm", 1, None)), 4)
         self.assertEqual(sheet.numbers(), [4])

@@ -9,24 +9,13 @@ from crosshall.figures import figure_of
 from crosshall.heads import heads_of, lies_under
 from crosshall.sieves import lets_by
 from crosshall.tables import Table, lay
-from helper import GROVE, TREES, random_sieve, refused, sheet_of
+from helper import ALL, COUNT, GROVE, NEVER, TREES, VIEWS, random_sieve, refused, sheet_of, table_of
 
-COUNT = ("count",)
-ALL = ("all", ())
-NEVER = ("some", ())
 FIVE = [COUNT, ("sum", "high"), ("greatest", "town"), ("least", "age"), ("unlike", "kind")]
-VIEWS = [
-    ((), (), (COUNT,)), (("town",), (), (COUNT, ("sum", "age"))), ((), ("age",), (("unlike", "town"), COUNT)),
-    (("town",), ("kind",), (("least", "high"), ("greatest", "high"), COUNT, COUNT)),
-    (("kind", "town"), ("age",), (COUNT, ("sum", "age"), ("least", "town"), ("unlike", "high"))),
-    (("town", "kind", "age"), ("high",), (COUNT, ("sum", "high"))), (("age",), ("high", "kind", "town"), (COUNT,)),
-    ((), ("town", "age", "high"), (("sum", "high"), ("greatest", "kind"))),
-    (("age", "high"), ("kind", "town"), (COUNT, ("unlike", "age"))),
-]
 
 
 def grove(view, sieve=ALL):
-    return lay(sheet_of(TREES, GROVE), view, sieve)
+    return table_of(view, GROVE, sieve)
 
 
 class Laying(unittest.TestCase):
